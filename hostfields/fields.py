@@ -63,12 +63,16 @@ def pay(battle, field, x, y):
     return won(battle[2][field], x, y)
 
 
+def look_plans(battle, one, other):
+    fields = len(battle[2])
+    if not is_plan(battle[0], fields, one) or not is_plan(battle[1], fields, other):
+        raise NoPlan("no plan of the side's hosts over the fields")
+
+
 def gain(battle, one, other):
     look_battle(battle)
-    fields = battle[2]
-    if not is_plan(battle[0], len(fields), one) or not is_plan(battle[1], len(fields), other):
-        raise NoPlan("no plan of the side's hosts over the fields")
-    return sum([won(field, x, y) for field, x, y in zip(fields, one, other)])
+    look_plans(battle, one, other)
+    return sum([won(field, x, y) for field, x, y in zip(battle[2], one, other)])
 
 
 def rises(battle):

@@ -1,21 +1,107 @@
-"""What several test files need: how a refusal is held to its class, and how long an answer may take."""
+"""What several test files need: how answers and refusals are held to the document, and things drawn to ask about."""
 
+import itertools
+import random
 import signal
 import unittest
 
 from hostfields import errors
+from hostfields.fields import pay
 
 REFUSALS = ("NoBattle", "NoPlan", "NoMix", "NoStream", "NoSide", "NoAlike", "NoNumber", "TooGreat", "NoEven",
             "NoText", "NoRow", "NoName", "NoPlace")
 
 BIG = 10 ** 30 - 1
 
-
 SECONDS = 60
+
+NO_NUMBERS = (None, True, False, "", "1", "flow", (), [], (1,), [1], [[]], ((),))
 
 
 def late(number, frame):
     raise AssertionError("not told soon")
+
+
+def lists_in(thing):
+    """Each list within a thing, once for each place at which it stands."""
+    told = [thing] if isinstance(thing, list) else []
+    if isinstance(thing, (list, tuple)):
+        for part in thing:
+            told += lists_in(part)
+    return told
+
+
+def bent_at_each_place(thing):
+    """Of a thing of lists, tuples and numbers those in which one place holds something of another kind."""
+    if isinstance(thing, int):
+        # A truth that is equal to the number is the easiest one to be taken for it.
+        yield from list(NO_NUMBERS) + [bool(thing), (thing,), [thing], str(thing)]
+        return
+    turned = tuple(thing) if isinstance(thing, list) else list(thing)
+    yield from (None, True, False, 0, 1, "", "stream", turned)
+    for place in range(len(thing)):
+        for wrong in bent_at_each_place(thing[place]):
+            yield thing[:place] + type(thing)([wrong]) + thing[place + 1:]
+
+
+def all_plans(hosts, fields):
+    """In the order of lists, as product goes; written down from the document, not from the program."""
+    return [list(plan) for plan in itertools.product(range(hosts + 1), repeat=fields) if sum(plan) == hosts]
+
+
+def all_counts(hosts, fields):
+    return [plan for plan in all_plans(hosts, fields) if plan == sorted(plan, reverse=True)]
+
+
+def drawn_plan(draw, hosts, fields):
+    cuts = sorted(draw.choice((0, hosts, draw.randint(0, hosts))) for cut in range(fields - 1))
+    return [end - start for start, end in zip([0] + cuts, cuts + [hosts])]
+
+
+def drawn_mix(draw, hosts, fields, many):
+    mix = []
+    for part in range(many):
+        plan = drawn_plan(draw, hosts, fields)
+        if mix and draw.random() < 0.3:
+            plan = list(draw.choice(mix)[0])
+        mix.append((plan, draw.choice((1, draw.randint(1, 9), draw.randint(10 ** 29, BIG)))))
+    return mix
+
+
+def drawn_field(draw, first, second, most=9):
+    word = draw.choice(("more", "lead", "table"))
+    worth = draw.randint(1, most)
+    if word == "more":
+        return (word, worth, draw.randint(-worth, worth))
+    if word == "lead":
+        return (word, worth, draw.randint(-2, 3))
+    return (word, [[draw.randint(-most, most) for y in range(second + 1)] for x in range(first + 1)])
+
+
+def drawn_battle(seed, first, second, fields, most=9):
+    draw = random.Random(seed)
+    return (first, second, [drawn_field(draw, first, second, most) for field in range(fields)])
+
+
+def best_table(battle, side, stream):
+    """The table whose numbers are all as great (for the second side as small) as point 11 lets them be."""
+    others = battle[1] if side == "first" else battle[0]
+    best = min if side == "first" else max
+    table = [[0] + [None] * others]
+    for field in reversed(range(len(battle[2]))):
+        here = [due(battle, field, side, stream, sent) for sent in range(others + 1)]
+        row = []
+        for count in range(others + 1):
+            ways = [sent for sent in range(count + 1) if table[0][count - sent] is not None]
+            row.append(best(here[sent] + table[0][count - sent] for sent in ways))
+        table.insert(0, row)
+    return table[:-1]
+
+
+def due(battle, field, side, stream, others):
+    if side == "first":
+        return sum(flow * pay(battle, field, sent, others) for left, sent, flow in stream[field])
+    return sum(flow * pay(battle, field, others, sent) for left, sent, flow in stream[field])
 
 
 class HostTest(unittest.TestCase):
@@ -39,12 +125,21 @@ class HostTest(unittest.TestCase):
         return error
 
     def told(self, call, *handed):
-        """Call twice, see that both answers are the same and nothing handed in is changed; tell the answer."""
+        """Call twice, see that nothing handed in is changed, that both answers are the same though the first one is
+        spoilt in between, and that each list told is a new one that stands at one place alone; tell the answer."""
         ahead = repr(handed)
+        spoilt = call(*handed)
+        self.assertEqual(ahead, repr(handed))
+        shown = repr(spoilt)
+        first_lists = lists_in(spoilt)
+        for part in first_lists:
+            part.append("spoilt")
+        self.assertEqual(ahead, repr(handed), "a list that is told was handed in")
         answer = call(*handed)
         self.assertEqual(ahead, repr(handed))
-        shown = repr(answer)
-        self.assertEqual(shown, repr(call(*handed)), ahead)
+        self.assertEqual(shown, repr(answer), ahead)
+        places = first_lists + lists_in(answer)
+        self.assertEqual(len({id(part) for part in places}), len(places), ahead)
         return answer
 
     def tells(self, answer, call, *handed):

@@ -1,9 +1,10 @@
 import copy
-import itertools
 import unittest
 
+from hostfields.counts import counts_table, counts_worth, is_alike, ring_gain
 from hostfields.fields import gain, look_battle, pay, rises
-from helper import BIG, HostTest
+from hostfields.judge import judged
+from helper import BIG, HostTest, all_plans
 
 MORE = ("more", 3, 1)
 LEAD = ("lead", 2, 1)
@@ -12,10 +13,6 @@ LEAD = ("lead", 2, 1)
 def table(first, second):
     """All numbers unlike, below 0 and above it, so that no row or number can be taken for another."""
     return ("table", [[100 * x - 7 * y - 3 for y in range(second + 1)] for x in range(first + 1)])
-
-
-def plans(hosts, fields):
-    return [list(plan) for plan in itertools.product(range(hosts + 1), repeat=fields) if sum(plan) == hosts]
 
 
 def askers():
@@ -27,6 +24,12 @@ def askers():
         (gain, ([], [])),
         (gain, ([-1, 2], [99])),
         (rises, ()),
+        (judged, ("third", (0, 1), None)),
+        (judged, ("first", (0, 1), ([], []))),
+        (is_alike, ()),
+        (ring_gain, ([], [])),
+        (counts_table, ()),
+        (counts_worth, ()),
     )
 
 
@@ -228,8 +231,8 @@ class GainTest(HostTest):
 
     def test_the_sum_over_the_fields(self):
         battle = (3, 2, [MORE, LEAD, table(3, 2)])
-        for one in plans(3, 3):
-            for other in plans(2, 3):
+        for one in all_plans(3, 3):
+            for other in all_plans(2, 3):
                 won = sum(pay(battle, field, one[field], other[field]) for field in range(3))
                 self.tells(won, gain, battle, one, other)
 

@@ -1,18 +1,8 @@
-import itertools
 import math
 import unittest
 
 from hostfields.plans import counts_many, counts_number, counts_of, plan_number, plan_of, plans_many
-from helper import BIG, HostTest
-
-
-def all_plans(hosts, fields):
-    """In the order of lists, as product goes; written down from the document, not from the program."""
-    return [list(plan) for plan in itertools.product(range(hosts + 1), repeat=fields) if sum(plan) == hosts]
-
-
-def all_counts(hosts, fields):
-    return [plan for plan in all_plans(hosts, fields) if plan == sorted(plan, reverse=True)]
+from helper import BIG, HostTest, all_counts, all_plans
 
 
 def partitions(hosts):
