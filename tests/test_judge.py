@@ -212,7 +212,8 @@ class JudgeTest(HostTest):
 
     def test_the_table_has_a_number_for_each_field_and_count(self):
         for table in ([], [[9, 3]], [[9, 3], []], [[9], [3, -3]], [[9, 3], [3]], [[9, 3], [3, -3], []],
-                      [[9, 3, 0], [3, -3]], [[9, 3], [3, -3, -9]], [[9, 3], [3, -3], [3, -3]], OTHER_TABLE, [[9, 3], (3, -3)], STREAM, 0):
+                      [[9, 3, 0], [3, -3]], [[9, 3], [3, -3, -9]], [[9, 3], [3, -3], [3, -3]], OTHER_TABLE,
+                      [[9, 3], (3, -3)], STREAM, 0):
             self.tells(("table",), judged, BATTLE, "first", WORTH, (STREAM, table))
         self.tells(("table",), judged, BATTLE, "second", WORTH, (OTHER_STREAM, TABLE))
 
