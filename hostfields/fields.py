@@ -1,6 +1,6 @@
 """Battles and their fields: what is one, and what the first side wins."""
 
-from hostfields.errors import NoBattle, NoPlan
+from hostfields.errors import NoBattle, NoPlan, TooGreat
 from hostfields.plans import is_plan
 from hostfields.wholes import is_between, is_from, is_whole
 
@@ -19,6 +19,11 @@ def look_battle(battle):
 def has_size(battle):
     sides_fit = is_between(battle[0], 0, MOST_HOSTS) and is_between(battle[1], 0, MOST_HOSTS)
     return sides_fit and 1 <= len(battle[2]) <= MOST_FIELDS
+
+
+def look_within(battle, most_hosts, most_fields):
+    if max(battle[0], battle[1]) > most_hosts or len(battle[2]) > most_fields:
+        raise TooGreat("a battle of fewer hosts and fields is asked for")
 
 
 def is_field(first, second, field):
@@ -72,7 +77,11 @@ def look_plans(battle, one, other):
 def gain(battle, one, other):
     look_battle(battle)
     look_plans(battle, one, other)
-    return sum([won(field, x, y) for field, x, y in zip(battle[2], one, other)])
+    return won_in_all(battle[2], one, other)
+
+
+def won_in_all(fields, one, other):
+    return sum([won(field, x, y) for field, x, y in zip(fields, one, other)])
 
 
 def rises(battle):

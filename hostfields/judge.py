@@ -2,7 +2,7 @@
 
 from hostfields.fields import is_table, look_battle
 from hostfields.mixes import is_stream, whole_in
-from hostfields.tables import dues, look_side, other_hosts, own_hosts
+from hostfields.tables import bounds, dues, look_side, other_hosts, own_hosts
 
 
 def judged(battle, side, worth, paper):
@@ -30,18 +30,11 @@ def wrong_form(battle, side, paper):
 def wrong_number(battle, side, paper):
     table = paper[1]
     for field, field_dues in enumerate(dues(battle, side, paper[0])):
+        behind = table[field + 1] if field + 1 < len(table) else None
         for count, number in enumerate(table[field]):
-            bounds = bounds_there(table, field, field_dues, count)
-            if not all([keeps(side, number, bound) for bound in bounds]):
+            if not all([keeps(side, number, bound) for bound in bounds(field_dues, behind, count)]):
                 return ("number", field, count)
     return None
-
-
-def bounds_there(table, field, field_dues, count):
-    if field == len(table) - 1:
-        return [field_dues[count]]
-    behind = table[field + 1]
-    return [field_dues[sent] + behind[count - sent] for sent in range(count + 1)]
 
 
 def keeps(side, number, bound):

@@ -1,4 +1,4 @@
-"""Tables that several modules reckon by: the dues of a stream, and what counts win against counts."""
+"""Tables that several modules reckon by: the dues of a stream with their bounds, and what counts win."""
 
 from hostfields.errors import NoSide
 from hostfields.fields import won
@@ -30,6 +30,14 @@ def due(field, side, row, count):
     if side == "first":
         return sum([flow * won(field, sent, count) for left, sent, flow in row])
     return sum([flow * won(field, count, sent) for left, sent, flow in row])
+
+
+# What the table's number at a count of the other side's hosts is held to, for each number of them that may be sent to
+# the field: behind is the table's row of the next field, None at the last one, to which all are sent.
+def bounds(field_dues, behind, count):
+    if behind is None:
+        return [field_dues[count]]
+    return [field_dues[sent] + behind[count - sent] for sent in range(count + 1)]
 
 
 # What one list of hosts wins against another, each number of the one on a field with each of the other.

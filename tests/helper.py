@@ -3,10 +3,13 @@
 import itertools
 import random
 import signal
+import time
 import unittest
+from fractions import Fraction
 
 from hostfields import errors
-from hostfields.fields import pay
+from hostfields.fields import gain, pay
+from hostfields.mixes import stream_of
 
 REFUSALS = ("NoBattle", "NoPlan", "NoMix", "NoStream", "NoSide", "NoAlike", "NoNumber", "TooGreat", "NoEven",
             "NoText", "NoRow", "NoName", "NoPlace")
@@ -14,8 +17,11 @@ REFUSALS = ("NoBattle", "NoPlan", "NoMix", "NoStream", "NoSide", "NoAlike", "NoN
 BIG = 10 ** 30 - 1
 
 SECONDS = 60
+FEW_SECONDS = 5
 
 NO_NUMBERS = (None, True, False, "", "1", "flow", (), [], (1,), [1], [[]], ((),))
+
+SIDES = ("first", "second")
 
 
 def late(number, frame):
@@ -42,6 +48,10 @@ def bent_at_each_place(thing):
     for place in range(len(thing)):
         for wrong in bent_at_each_place(thing[place]):
             yield thing[:place] + type(thing)([wrong]) + thing[place + 1:]
+
+
+def pair(fraction):
+    return (fraction.numerator, fraction.denominator)
 
 
 def all_plans(hosts, fields):
@@ -78,6 +88,22 @@ def drawn_field(draw, first, second, most=9):
     return (word, [[draw.randint(-most, most) for y in range(second + 1)] for x in range(first + 1)])
 
 
+def table(first, second, number):
+    return ("table", [[number(x, y) for y in range(second + 1)] for x in range(first + 1)])
+
+
+def rising_table(draw, first, second, most):
+    """Drawn steps that never fall with x and never rise with y."""
+    ups = [draw.randint(0, most) for x in range(first + 1)]
+    downs = [draw.randint(0, most) for y in range(second + 1)]
+    return table(first, second, lambda x, y: sum(ups[:x]) - sum(downs[:y]) + max(ups) * min(x, second - y))
+
+
+def even_table(draw, hosts, most):
+    numbers = [[draw.randint(-most, most) for y in range(hosts + 1)] for x in range(hosts + 1)]
+    return table(hosts, hosts, lambda x, y: numbers[x][y] - numbers[y][x])
+
+
 def drawn_battle(seed, first, second, fields, most=9):
     draw = random.Random(seed)
     return (first, second, [drawn_field(draw, first, second, most) for field in range(fields)])
@@ -102,6 +128,33 @@ def due(battle, field, side, stream, others):
     if side == "first":
         return sum(flow * pay(battle, field, sent, others) for left, sent, flow in stream[field])
     return sum(flow * pay(battle, field, others, sent) for left, sent, flow in stream[field])
+
+
+def average(battle, side, mix, plan):
+    """What the first side wins on average where this side draws its mix and the other one has the plan."""
+    whole = sum(weight for own, weight in mix)
+    if side == "first":
+        return Fraction(sum(weight * gain(battle, own, plan) for own, weight in mix), whole)
+    return Fraction(sum(weight * gain(battle, plan, own) for own, weight in mix), whole)
+
+
+def shown_by_all_plans(battle, side, mix):
+    plans = all_plans(battle[1] if side == "first" else battle[0], len(battle[2]))
+    averages = [average(battle, side, mix, plan) for plan in plans]
+    return min(averages) if side == "first" else max(averages)
+
+
+def papers():
+    """Drawn battles with a mix of a side, its stream, the tightest table, and what it shows, by all plans."""
+    draw = random.Random(11)
+    for seed, size in enumerate(((0, 0, 1), (0, 2, 2), (2, 0, 2), (1, 1, 1), (2, 3, 1), (3, 2, 2), (2, 3, 3), (3, 3, 3),
+                                 (1, 4, 4), (4, 2, 4), (2, 2, 5), (5, 5, 2))):
+        for most in (3, BIG):
+            battle = drawn_battle(f"{seed} {most}", *size, most)
+            for side in SIDES:
+                mix = drawn_mix(draw, battle[0] if side == "first" else battle[1], len(battle[2]), draw.randint(1, 4))
+                stream = stream_of(mix)
+                yield battle, side, mix, (stream, best_table(battle, side, stream))
 
 
 class HostTest(unittest.TestCase):
@@ -141,6 +194,21 @@ class HostTest(unittest.TestCase):
         places = first_lists + lists_in(answer)
         self.assertEqual(len({id(part) for part in places}), len(places), ahead)
         return answer
+
+    def told_soon(self, call, *handed):
+        start = time.monotonic()
+        answer = call(*handed)
+        self.assertLess(time.monotonic() - start, FEW_SECONDS, handed)
+        return answer
+
+    def keeps_to(self, worth, rows, columns, table):
+        """See that each side's weights keep a table's numbers to the worth, whatever the other one picks."""
+        self.assertEqual([len(rows), len(columns)], [len(table), len(table[0])])
+        self.assertTrue(min(rows) >= 0 < sum(rows) and min(columns) >= 0 < sum(columns))
+        for column in range(len(columns)):
+            self.assertGreaterEqual(sum(weight * row[column] for weight, row in zip(rows, table)), worth * sum(rows))
+        for row in table:
+            self.assertLessEqual(sum(weight * number for weight, number in zip(columns, row)), worth * sum(columns))
 
     def tells(self, answer, call, *handed):
         """As told, and see that the answer is this one, of this kind."""

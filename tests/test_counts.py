@@ -1,6 +1,5 @@
 import itertools
 import random
-import time
 import unittest
 from fractions import Fraction
 
@@ -9,37 +8,16 @@ from hostfields.fields import gain, rises
 from hostfields.judge import judged
 from hostfields.mixes import stream_of
 from helper import (BIG, HostTest, all_counts, all_plans, bent_at_each_place, best_table, drawn_field, drawn_mix,
-                    drawn_plan)
+                    drawn_plan, even_table, pair, rising_table, table)
 
 MORE = ("more", 3, 1)
 LEAD = ("lead", 2, 1)
 SMALL = [(0, 0, 1), (0, 0, 4), (1, 0, 2), (0, 2, 3), (1, 1, 1), (4, 3, 1), (1, 1, 2), (2, 3, 2), (3, 2, 3), (3, 3, 3),
          (2, 2, 4), (4, 2, 3), (2, 1, 5), (5, 5, 2)]
-FEW_SECONDS = 5
-
-
-def pair(fraction):
-    return (fraction.numerator, fraction.denominator)
 
 
 def alike(first, second, fields, field):
     return (first, second, [field] * fields)
-
-
-def table(first, second, number):
-    return ("table", [[number(x, y) for y in range(second + 1)] for x in range(first + 1)])
-
-
-def rising_table(draw, first, second, most):
-    """Drawn steps that never fall with x and never rise with y."""
-    ups = [draw.randint(0, most) for x in range(first + 1)]
-    downs = [draw.randint(0, most) for y in range(second + 1)]
-    return table(first, second, lambda x, y: sum(ups[:x]) - sum(downs[:y]) + max(ups) * min(x, second - y))
-
-
-def even_table(draw, hosts, most):
-    numbers = [[draw.randint(-most, most) for y in range(hosts + 1)] for x in range(hosts + 1)]
-    return table(hosts, hosts, lambda x, y: numbers[x][y] - numbers[y][x])
 
 
 def turnings(plan):
@@ -299,9 +277,7 @@ class CountsWorthTest(HostTest):
             self.is_right(alike(first, second, fields, drawn_field(draw, first, second, 4)))
 
     def soon(self, battle, worth=None):
-        start = time.monotonic()
-        counts_worth(battle)
-        self.assertLess(time.monotonic() - start, FEW_SECONDS)
+        self.told_soon(counts_worth, battle)
         return self.is_right(battle, worth)
 
     def test_ten_hosts_on_five_fields_of_more(self):

@@ -2,23 +2,18 @@ import random
 import unittest
 from fractions import Fraction
 
-from hostfields.games import table_worth
-from helper import BIG, HostTest
+from hostfields.games import table_worth, worth_over
+from helper import BIG, HostTest, pair
 
 
 class GamesTest(HostTest):
     def solves(self, table, worth=None):
         """See that each side keeps to the worth by its weights whatever the other one picks: so it is the worth."""
-        told, rows, columns = self.told(table_worth, table)
-        told = Fraction(*told)
-        self.assertEqual([len(rows), len(columns)], [len(table), len(table[0])])
-        self.assertTrue(min(rows) >= 0 < sum(rows) and min(columns) >= 0 < sum(columns))
-        for column in range(len(columns)):
-            self.assertGreaterEqual(sum(weight * row[column] for weight, row in zip(rows, table)), told * sum(rows))
-        for row in table:
-            self.assertLessEqual(sum(weight * number for weight, number in zip(columns, row)), told * sum(columns))
+        told = self.told(table_worth, table)
+        self.assertEqual(told[0], pair(Fraction(*told[0])))
+        self.keeps_to(Fraction(*told[0]), told[1], told[2], table)
         if worth is not None:
-            self.assertEqual(told, worth)
+            self.assertEqual(Fraction(*told[0]), worth)
 
     def test_by_hand(self):
         self.tells(((5, 1), [1], [1]), table_worth, [[5]])
@@ -66,6 +61,20 @@ class GamesTest(HostTest):
         draw = random.Random(23)
         for most in (1, BIG):
             self.solves([[draw.randint(-most, most) for column in range(30)] for row in range(30)])
+
+    def test_rows_over_bottoms_of_their_own(self):
+        self.tells(((2, 3), [1, 2], [1, 2]), worth_over, [[4, 0], [0, 3]], [2, 3])
+        self.tells(((-5, 2), [1], [1]), worth_over, [[-5]], [2])
+        draw = random.Random(24)
+        for most in (1, 10, BIG):
+            for trial in range(60):
+                width = draw.randint(1, 6)
+                table = [[draw.randint(-most, most) for column in range(width)] for row in range(draw.randint(1, 6))]
+                bottoms = [draw.randint(1, draw.choice((1, 9, BIG))) for row in table]
+                fractions = [[Fraction(number, bottom) for number in row] for row, bottom in zip(table, bottoms)]
+                worth, rows, columns = self.told(worth_over, table, bottoms)
+                self.assertEqual(worth, pair(Fraction(*worth)))
+                self.keeps_to(Fraction(*worth), rows, columns, fractions)
 
 
 if __name__ == "__main__":

@@ -2,12 +2,10 @@ import random
 import unittest
 from fractions import Fraction
 
-from hostfields.fields import gain
 from hostfields.judge import judged
 from hostfields.mixes import stream_of
-from helper import BIG, HostTest, all_plans, bent_at_each_place, best_table, drawn_battle, drawn_mix, due
-
-SIDES = ("first", "second")
+from helper import (BIG, SIDES, HostTest, bent_at_each_place, best_table, drawn_battle, drawn_mix, due, pair, papers,
+                    shown_by_all_plans)
 
 # The first side draws one of two plans, the second one has a single host: by hand, each due is told beside it.
 BATTLE = (2, 1, [("more", 3, 0), ("more", 3, 0)])
@@ -23,41 +21,10 @@ OTHER_STREAM = [[(1, 0, 1), (1, 1, 1)], [(0, 0, 1), (1, 1, 1)]]
 OTHER_TABLE = [[-6, 0, 6], [-3, 3, 6]]
 
 
-def pair(fraction):
-    return (fraction.numerator, fraction.denominator)
-
-
-def average(battle, side, mix, plan):
-    """What the first side wins on average where this side draws its mix and the other one has the plan."""
-    whole = sum(weight for own, weight in mix)
-    if side == "first":
-        return Fraction(sum(weight * gain(battle, own, plan) for own, weight in mix), whole)
-    return Fraction(sum(weight * gain(battle, plan, own) for own, weight in mix), whole)
-
-
-def shown_by_all_plans(battle, side, mix):
-    plans = all_plans(battle[1] if side == "first" else battle[0], len(battle[2]))
-    averages = [average(battle, side, mix, plan) for plan in plans]
-    return min(averages) if side == "first" else max(averages)
-
-
 def changed(table, field, count, by):
     told = [list(row) for row in table]
     told[field][count] += by
     return told
-
-
-def papers():
-    """Drawn battles with a mix of a side, its stream, the tightest table, and what it shows, by all plans."""
-    draw = random.Random(11)
-    for seed, size in enumerate(((0, 0, 1), (0, 2, 2), (2, 0, 2), (1, 1, 1), (2, 3, 1), (3, 2, 2), (2, 3, 3), (3, 3, 3),
-                                 (1, 4, 4), (4, 2, 4), (2, 2, 5), (5, 5, 2))):
-        for most in (3, BIG):
-            battle = drawn_battle(f"{seed} {most}", *size, most)
-            for side in SIDES:
-                mix = drawn_mix(draw, battle[0] if side == "first" else battle[1], len(battle[2]), draw.randint(1, 4))
-                stream = stream_of(mix)
-                yield battle, side, mix, (stream, best_table(battle, side, stream))
 
 
 class JudgeTest(HostTest):

@@ -2,13 +2,9 @@ import unittest
 from fractions import Fraction
 
 from hostfields.ratios import below, minus, plus, ratio, times
-from helper import BIG, HostTest
+from helper import BIG, HostTest, pair
 
 NUMBERS = (-BIG, -(10 ** 29), -12, -6, -4, -3, -2, -1, 0, 1, 2, 3, 4, 6, 9, 12, 10 ** 29, BIG - 1, BIG)
-
-
-def pair(fraction):
-    return (fraction.numerator, fraction.denominator)
 
 
 def fractions():

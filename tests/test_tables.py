@@ -3,7 +3,7 @@ import unittest
 
 from hostfields.fields import pay
 from hostfields.mixes import stream_of
-from hostfields.tables import dues, together_table
+from hostfields.tables import bounds, dues, together_table
 from helper import BIG, HostTest, all_counts, drawn_battle, drawn_mix, due
 
 
@@ -22,6 +22,11 @@ class TablesTest(HostTest):
                 told = [[due(battle, field, side, stream, count) for count in range(others + 1)]
                         for field in range(fields)]
                 self.tells(told, dues, battle, side, stream)
+
+    def test_bounds(self):
+        self.tells([7], bounds, [5, 6, 7], None, 2)
+        self.tells([5 + 30, 6 + 20, 7 + 10], bounds, [5, 6, 7], [10, 20, 30], 2)
+        self.tells([5 + 10], bounds, [5, 6, 7], [10, 20, 30], 0)
 
     def test_together(self):
         battle = drawn_battle(32, 4, 3, 1)
