@@ -17,8 +17,11 @@ def look_battle(battle):
 
 
 def has_size(battle):
-    sides_fit = is_between(battle[0], 0, MOST_HOSTS) and is_between(battle[1], 0, MOST_HOSTS)
-    return sides_fit and 1 <= len(battle[2]) <= MOST_FIELDS
+    return are_hosts(battle[0], battle[1]) and 1 <= len(battle[2]) <= MOST_FIELDS
+
+
+def are_hosts(first, second):
+    return is_between(first, 0, MOST_HOSTS) and is_between(second, 0, MOST_HOSTS)
 
 
 def look_within(battle, most_hosts, most_fields):

@@ -8,6 +8,7 @@ from hostfields.fields import look_battle, look_within, won, won_in_all
 from hostfields.grids import Grid, column_weights, lay_column, lay_row, row_weights, turn_to_end
 from hostfields.least import answer_to, shown_by
 from hostfields.mixes import stream_of
+from hostfields.tables import flat
 
 MOST_HOSTS = 7
 MOST_FIELDS = 4
@@ -55,13 +56,6 @@ def won_table(battle, field):
 
 def won_row(field, x, second):
     return [won(field, x, y) for y in range(second + 1)]
-
-
-def flat(rows):
-    told = []
-    for row in rows:
-        told.extend(row)
-    return told
 
 
 def rounded(battle):

@@ -1,6 +1,7 @@
 """Fractions: tuples (top, bottom) in lowest terms, bottom from 1 on."""
 
 from hostfields.errors import NoNumber
+from hostfields.wholes import is_from, is_whole
 
 
 def ratio(top, bottom):
@@ -11,6 +12,12 @@ def ratio(top, bottom):
     if bottom < 0:
         divisor = -divisor
     return (top // divisor, bottom // divisor)
+
+
+def is_fraction(thing):
+    if not isinstance(thing, tuple) or len(thing) != 2:
+        return False
+    return is_whole(thing[0]) and is_from(thing[1], 1) and common_divisor(abs(thing[0]), thing[1]) == 1
 
 
 def common_divisor(one, other):

@@ -4,6 +4,13 @@ from hostfields.errors import NoSide
 from hostfields.fields import won
 
 
+def flat(rows):
+    told = []
+    for row in rows:
+        told.extend(row)
+    return told
+
+
 def look_side(side):
     if side not in ("first", "second"):
         raise NoSide("a side is first or second")

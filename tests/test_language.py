@@ -19,6 +19,10 @@ WORDS = set("""type typing typing_extensions enum Enum IntEnum StrEnum Flag IntF
     namedtuple NamedTuple TypedDict TYPE_CHECKING abstractmethod""".split())
 UNUSED = set("register mro elements open input version_info with_traceback add_note format format_map".split())
 
+WALKERS = ("list", "tuple", "dict", "sorted", "sum", "any", "all", "enumerate", "zip", "min", "max")
+KEYWORDS = (("sorted", "key"), ("sorted", "reverse"), ("min", "key"), ("min", "default"), ("max", "key"),
+            ("max", "default"), ("sum", "start"), ("enumerate", "start"), ("zip", "strict"))
+
 STATEMENTS = (ast.Assign, ast.AugAssign, ast.If, ast.While, ast.For, ast.Return, ast.Break, ast.Continue, ast.Pass,
               ast.Raise, ast.Try, ast.Expr, ast.FunctionDef, ast.ClassDef, ast.ImportFrom)
 EXPRESSIONS = (ast.Constant, ast.List, ast.Tuple, ast.Dict, ast.Set, ast.BinOp, ast.UnaryOp, ast.BoolOp, ast.Compare,
@@ -112,6 +116,58 @@ class LanguageTest(unittest.TestCase):
                 self.assertFalse(isinstance(node.value, str) and "\u0025" in node.value, place)
             if isinstance(node, ast.Compare) and any(isinstance(op, (ast.Is, ast.IsNot)) for op in node.ops):
                 self.assertIn(repr(getattr(node.comparators[0], "value", 0)), ("None", "True", "False"), place)
+
+    def test_texts_with_names_in_them(self):
+        for place, node in self.nodes():
+            if isinstance(node, ast.FormattedValue):
+                self.assertIsInstance(node.value, ast.Name, place)
+                self.assertTrue(node.format_spec is None and node.conversion in (-1, ord("r")), place)
+
+    def test_tops_of_modules(self):
+        for path in files():
+            for row in ast.parse(path.read_text(encoding="utf-8")).body:
+                self.assertIsInstance(row, (ast.Expr, ast.ImportFrom, ast.FunctionDef, ast.ClassDef, ast.Assign), path)
+                if isinstance(row, ast.Expr):
+                    self.assertIsInstance(row.value.value, str, path)
+                if isinstance(row, ast.Assign):
+                    ast.literal_eval(row.value)
+
+    def test_no_sets_powers_or_annotations(self):
+        # Rules 13, 21, 24 and 27 allow little of these: the program has none.
+        for place, node in self.nodes():
+            self.assertNotIsInstance(node, (ast.Set, ast.Pow, ast.AnnAssign), place)
+            self.assertFalse(isinstance(node, ast.Name) and node.id in ("set", "frozenset", "chr"), place)
+            self.assertFalse(getattr(node, "annotation", None) or getattr(node, "returns", None), place)
+
+    def test_what_is_walked_at_once(self):
+        for place, node in self.nodes():
+            walked = [node.iter] if isinstance(node, (ast.For, ast.comprehension)) else []
+            if isinstance(node, ast.Call) and isinstance(node.func, ast.Name) and node.func.id in WALKERS:
+                walked = node.args
+            for part in walked:
+                part.walked_at_once = True
+            if isinstance(node, ast.Call) and getattr(node.func, "id", "") in ("zip", "enumerate", "reversed", "range"):
+                self.assertTrue(getattr(node, "walked_at_once", False), place)
+            if isinstance(node, ast.Call) and getattr(node.func, "attr", "") in ("items", "keys", "values"):
+                self.assertTrue(getattr(node, "walked_at_once", False), place)
+
+    def test_keywords(self):
+        for place, node in self.nodes():
+            for keyword in node.keywords if isinstance(node, ast.Call) else ():
+                self.assertIn((getattr(node.func, "id", ""), keyword.arg), KEYWORDS, place)
+
+    def test_own_methods_and_values_have_names_of_their_own(self):
+        methods = set()
+        values = set()
+        for place, node in self.nodes():
+            if isinstance(node, ast.ClassDef):
+                methods |= {row.name for row in node.body if isinstance(row, ast.FunctionDef)}
+            if isinstance(node, ast.Attribute) and isinstance(node.ctx, ast.Store):
+                values.add(node.attr)
+        self.assertEqual(methods & values, set())
+        kinds = (str, int, list, dict, set, tuple, bytes)
+        taken = {name for name in methods | values for kind in kinds if name in dir(kind)}
+        self.assertEqual(taken - set(DUNDERS), set())
 
     def test_functions_and_classes(self):
         for place, node in self.nodes():
